@@ -1,0 +1,1 @@
+"""Comesback: services that ask again, followed beat by beat."""
