@@ -1,7 +1,7 @@
 """Beats of a service: one, or those of a row of fresh asks."""
 
 from comesback.errors import NoFresh, NoRow
-from comesback.kinds import is_within
+from comesback.kinds import are_within, is_within
 from comesback.settings import check_state
 from comesback.steps import step
 
@@ -19,7 +19,7 @@ def beat(setting, state, fresh):
 
 def is_row(thing):
     """Tell whether thing, any value, is a row of fresh asks, of any length."""
-    return isinstance(thing, tuple) and all([is_fresh(fresh) for fresh in thing])
+    return are_within(thing, 0, MOST_FRESH)
 
 
 def run(setting, state, row):

@@ -35,6 +35,13 @@ def some_setting(dice):
     return tuple(dice.choice(values) for values in RANGES)
 
 
+def some_plain_setting(dice):
+    """Any setting, half of them without tokens and half of them without a fuse."""
+    setting = some_setting(dice)
+    tokens, fuse = (dice.choice((None, part)) for part in setting[7:])
+    return setting[:7] + (tokens, fuse)
+
+
 def some_state(dice, setting):
     """Any state of the setting, not only one that its beats lead to."""
     _, room, patience, tries, wait, _, keeps, tokens, fuse = setting

@@ -1,0 +1,30 @@
+"""Pairs of a state and a number, which show what was found."""
+
+from comesback.kinds import is_number, is_tuple_of
+from comesback.settings import is_state
+
+
+def numbered(setting, thing):
+    """Return the numbers of the states, if thing is a tuple of pairs (state, number).
+
+    The states are different ones of the setting and the numbers are from 0 on;
+    for everything else, return None.
+    """
+    if not isinstance(thing, tuple):
+        return None
+    numbers = {}
+    for pair in thing:
+        if not is_tuple_of(pair, 2):
+            return None
+        state, number = pair
+        if not is_state(setting, state) or state in numbers:
+            return None
+        if not is_number(number) or number < 0:
+            return None
+        numbers[state] = number
+    return numbers
+
+
+def ascending(numbers):
+    """Return the pairs of the states and their numbers, ascending."""
+    return tuple(sorted([(state, number) for state, number in numbers.items()]))
