@@ -4,7 +4,7 @@ from heapq import heappop, heappush
 
 from comesback.calm import fates
 from comesback.inflows import check_start
-from comesback.kinds import are_within, is_number, is_tuple_of, is_word
+from comesback.kinds import are_within, is_number, is_tuple_of
 from comesback.pairs import ascending, numbered
 from comesback.ways import behind_each, behind_row, explore
 
@@ -25,7 +25,7 @@ def shows_cure(setting, steady, state, thing):
     if not is_tuple_of(thing, 4):
         return False
     word, k, row, pairs = thing
-    if not is_word(word, "cure") or not is_number(k) or not are_within(row, 0, steady):
+    if word != "cure" or not is_number(k) or not are_within(row, 0, steady):
         return False
     if steady * len(row) - sum(row) != k:
         return False

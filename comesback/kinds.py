@@ -19,8 +19,3 @@ def is_tuple_of(thing, size):
 def are_within(thing, low, high):
     """Tell whether thing is a tuple of integers from low to high."""
     return isinstance(thing, tuple) and all([is_within(one, low, high) for one in thing])
-
-
-def is_word(thing, word):
-    """Tell whether thing is this text."""
-    return isinstance(thing, str) and thing == word

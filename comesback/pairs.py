@@ -27,4 +27,4 @@ def numbered(setting, thing):
 
 def ascending(numbers):
     """Return the pairs of the states and their numbers, ascending."""
-    return tuple(sorted([(state, number) for state, number in numbers.items()]))
+    return tuple(sorted(numbers.items()))

@@ -2,7 +2,7 @@
 
 from comesback.calm import calm_round, fates, lead
 from comesback.inflows import check_most, check_steady
-from comesback.kinds import are_within, is_tuple_of, is_within, is_word
+from comesback.kinds import are_within, is_tuple_of, is_within
 from comesback.pairs import ascending, numbered
 from comesback.settings import first_state, is_state
 from comesback.ways import behind, behind_each, behind_row, explore, shortest_row
@@ -26,9 +26,9 @@ def rows(setting, steady, most):
 def shows_rows(setting, steady, most, thing):
     """Tell whether thing, any value, shows what rows tells."""
     check_all(setting, steady, most)
-    if is_tuple_of(thing, 2) and is_word(thing[0], "always"):
+    if is_tuple_of(thing, 2) and thing[0] == "always":
         return shows_always(setting, steady, most, thing[1])
-    if is_tuple_of(thing, 4) and is_word(thing[0], "down"):
+    if is_tuple_of(thing, 4) and thing[0] == "down":
         _, row, beats, ring = thing
         return (
             are_within(row, 0, most)

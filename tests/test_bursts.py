@@ -125,6 +125,11 @@ class Bursts(unittest.TestCase):
             for door in range(4):
                 for dead in range(room + 1):
                     self.check_each(setting, steady, (dead, (), ((),), 0, door))
+        # Here a single asker who waits on keeps the service in a round of its own.
+        setting = (1, 3, 2, 1, 1, "newest", False, None, None)
+        for steady in (6, 7, 8, 9):
+            self.assertEqual(self.check_each(setting, steady, (0, ((0, 1),), ((),), 0, 0)), ((0, None),))
+            self.assertEqual(self.check_each(setting, steady, (0, (), ((),), 0, 0)), ())
 
     def test_much_in_later_and_dead_ones(self):
         dice = random.Random(214)
