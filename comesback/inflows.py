@@ -24,3 +24,9 @@ def check_most(most, least):
     """Raise NoMost for what is not a most that is least or more."""
     if not is_within(most, least, GREATEST):
         raise NoMost(f"this is not an integer from {least} to {GREATEST}")
+
+
+def check_inflow(setting, most):
+    """Raise NoSetting, or else NoMost for what is not the most fresh asks in a beat."""
+    check_setting(setting)
+    check_most(most, 1)

@@ -19,3 +19,10 @@ def is_tuple_of(thing, size):
 def are_within(thing, low, high):
     """Tell whether thing is a tuple of integers from low to high."""
     return isinstance(thing, tuple) and all([is_within(one, low, high) for one in thing])
+
+
+def is_set(thing):
+    """Tell whether thing is an ascending tuple of different integers."""
+    if not isinstance(thing, tuple) or not all([is_number(one) for one in thing]):
+        return False
+    return all([low < high for low, high in zip(thing, thing[1:])])

@@ -10,6 +10,14 @@ def numbered(setting, thing):
     The states are different ones of the setting and the numbers are from 0 on;
     for everything else, return None.
     """
+    numbers = with_integers(setting, thing)
+    if numbers is None or not all([number >= 0 for number in numbers.values()]):
+        return None
+    return numbers
+
+
+def with_integers(setting, thing):
+    """Return the same for pairs with any integers, also below 0."""
     if not isinstance(thing, tuple):
         return None
     numbers = {}
@@ -17,9 +25,7 @@ def numbered(setting, thing):
         if not is_tuple_of(pair, 2):
             return None
         state, number = pair
-        if not is_state(setting, state) or state in numbers:
-            return None
-        if not is_number(number) or number < 0:
+        if not is_state(setting, state) or state in numbers or not is_number(number):
             return None
         numbers[state] = number
     return numbers

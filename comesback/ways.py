@@ -24,7 +24,12 @@ def behind_each(setting, state, most):
 
 
 def explore(setting, first, most):
-    """Return all states that rows from the first one lead to, each with those behind it.
+    """Return all states that rows from the first one lead to, each with those behind it."""
+    return spread(first, lambda state: behind_each(setting, state, most))
+
+
+def spread(first, states_behind):
+    """Return a dict of all states that the first one leads to, each with those behind it.
 
     They stand in the order of the first of the shortest rows to each: short
     rows ahead of long ones, and rows of one length as tuples compare.
@@ -34,7 +39,7 @@ def explore(setting, first, most):
     seen = {first}
     while len(graph) < len(found):
         state = found[len(graph)]
-        graph[state] = behind_each(setting, state, most)
+        graph[state] = states_behind(state)
         for one in graph[state]:
             if one not in seen:
                 seen.add(one)
