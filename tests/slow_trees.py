@@ -103,3 +103,69 @@ def slow_plays(tree, plan, failing, limit=None):
 
 def slow_count(asks, service):
     return len(asks) if service is None else asks.count(service)
+
+
+def slow_only(tree, plan, failing, service, limit=None):
+    """The most asks of any such play, or None if they are more than the limit."""
+    plays = slow_plays(tree, plan, failing, limit)
+    if plays is None:
+        return None
+    return max(slow_count(asks, service) for _, _, asks in plays)
+
+
+def slow_numbers(tree, failing, service, limit=None):
+    """What numbers tells, each call gone through by itself; None if that is too much."""
+    plays = slow_plays(tree, (None, False), failing, limit)
+    parts = tuple(slow_numbers(part, failing, service, limit) for part in tree[3])
+    if plays is None or None in parts:
+        return None
+    ends = {True: [], False: []}
+    for _, answered, asks in plays:
+        ends[answered].append(slow_count(asks, service))
+    return (max(ends[True]), max(ends[False], default=None), parts)
+
+
+def slow_bounded(call, failing, counted, found):
+    """Whether the numbers found, of good kinds, bound each call as [64] says."""
+    service, tries, mode, parts = call
+    answers, fails = [one[0] for one in found[2]], [one[1] for one in found[2]]
+    own = 1 if counted in (None, service) else 0
+    if mode == "any" and parts:
+        most = max(own + sum(fails[:place]) + answers[place]
+                   for place in range(len(parts)) if None not in fails[:place])
+        failing_ones = [own + sum(fails)] if None not in fails else []
+    else:
+        most = own + sum(answers)
+        failing_ones = [own + sum(answers[:place]) + fails[place]
+                        for place in range(len(parts)) if fails[place] is not None]
+    if service in failing:
+        failing_ones.append(most)
+    if found[0] < most:
+        return False
+    if failing_ones:
+        greatest = max(failing_ones)
+        if found[0] < (tries - 1) * greatest + most or found[1] is None or found[1] < tries * greatest:
+            return False
+    return all(slow_bounded(part, failing, counted, one) for part, one in zip(parts, found[2]))
+
+
+def slow_shows(tree, failing, service, thing):
+    """Whether (most, fails, found), of good kinds, shows what only tells."""
+    most, fails, found = thing
+    free = (None, False)
+    if slow_count(slow_ran(tree, free, fails)[1], service) != most:
+        return False
+    if not set(slow_fails(tree, free, fails)) <= set(failing):
+        return False
+    if most < found[0] or found[1] is not None and most < found[1]:
+        return False
+    return slow_bounded(tree, failing, service, found)
+
+
+def products(tree):
+    """Pairs of a service and the product of the tries on the way to it, one for each call."""
+    service, tries, _, parts = tree
+    found = [(service, tries)]
+    for part in parts:
+        found += [(other, tries * product) for other, product in products(part)]
+    return found
