@@ -12,7 +12,7 @@ def alike(one, other, most):
     check_setting(one)
     check_inflow(other, most)
     first = first_states(one, other)
-    graph = spread(first, lambda pair: pairs_behind(one, other, pair, most))
+    graph = spread(first, lambda both: pairs_behind(one, other, both, most))
     for pair in graph:
         fresh = first_difference(one, other, pair, most)
         if fresh is not None:

@@ -105,7 +105,7 @@ class House:
 
     def __repr__(self):
         """The name of the class, with numbers."""
-        return f"{self.__class__.__name__}({len(self)} in the queue, {self.beats} beats)"
+        return "".join([self.__class__.__name__, f"({len(self)} in the queue, {self.beats} beats)"])
 
 
 class Shielded(House):

@@ -496,6 +496,10 @@ class Houses(unittest.TestCase):
         self.unlike(OwnShielded(EXAMPLE, 2), Shielded(EXAMPLE, 2))
         self.assertEqual(repr(Own(EXAMPLE)), "Own(0 in the queue, 0 beats)")
 
+    def test_a_class_of_the_same_name_that_is_no_house(self):
+        other = type("House", (), {"state": first_state(EXAMPLE), "setting": EXAMPLE})()
+        self.unlike(House(EXAMPLE), other)
+
     def test_other_gates(self):
         for kind in GATED_KINDS:
             for one in (0, 1, 2, 999):
